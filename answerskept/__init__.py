@@ -1,0 +1,1 @@
+"""Answerskept: changes made apart, judged by answers in all worlds."""

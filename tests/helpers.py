@@ -1,0 +1,204 @@
+"""What the tests share: short notations, any values, and twisted ones."""
+
+import copy
+import random
+import re
+
+from answerskept import errors
+
+ERRORS = {
+    "Wrong": ("place",), "TooMany": ("limit",), "Missing": ("name",), "Uneven": ("name",),
+    "Round": ("name",), "Loose": ("function", "name"), "NoFunction": ("name",), "NoPlace": ("place",),
+    "Overlap": ("one", "other"), "Quarrel": ("one", "other"), "Clash": ("one", "other"), "Unlike": (),
+    "QuarrelRow": ("row",), "NoText": (), "NoDeed": (), "Taken": ("name",), "NoEditor": ("name",),
+    "NoNumber": ("number",), "Broken": ("number", "world"), "Nothing": (), "Stopped": ("index",), "NoCommand": (),
+}
+
+
+def term(text):
+    """The term that a text like f(a,g(b)) writes."""
+    tokens = re.findall(r"[A-Za-z]+|[(),]", text)
+    found = _read_term(tokens)
+    assert not tokens, text
+    return found
+
+
+def _read_term(tokens):
+    parts = [tokens.pop(0)]
+    if tokens and tokens[0] == "(":
+        while tokens.pop(0) != ")":
+            parts.append(_read_term(tokens))
+    return tuple(parts)
+
+
+def terms(text):
+    """The list of the terms that a text with blanks between them writes."""
+    return [term(word) for word in text.split()]
+
+
+def code(text):
+    """The code, guard, fact or paper that a text writes, as in: if a b tell f(a) tell c."""
+    words = text.split()
+    found = _read_code(words)
+    assert not words, text
+    return found
+
+
+def _read_code(words):
+    word = words.pop(0)
+    if word == "if":
+        one, other = term(words.pop(0)), term(words.pop(0))
+        yes = _read_code(words)
+        return ("if", one, other, yes, _read_code(words))
+    if word == "tell":
+        return ("tell", term(words.pop(0)))
+    if word in ("alike", "unlike"):
+        return (word, term(words.pop(0)), term(words.pop(0)))
+    return (word,)
+
+
+def facts(text):
+    """The list of the facts that a text writes: a=b f(a)/c."""
+    found = []
+    for word in text.split():
+        one, sign, other = re.fullmatch(r"([^=/]+)([=/])([^=/]+)", word).groups()
+        found.append(("alike" if sign == "=" else "unlike", term(one), term(other)))
+    return found
+
+
+def chain(names, end="a", work="f"):
+    """A term with as many names, one within the other."""
+    found = (end,)
+    for _ in range(names - 1):
+        found = (work, found)
+    return found
+
+
+def any_values():
+    """Values of all kinds that are none of what any form of the package tells."""
+    made = [getattr(errors, name)(*(1 for _ in fields)) for name, fields in ERRORS.items()]
+    deep_list, deep_tuple, deep_dict = [], (), {}
+    for _ in range(29):
+        deep_list, deep_tuple, deep_dict = [deep_list], (deep_tuple,), {"a": deep_dict}
+    numbers = [-1, 0, 1, 7, 10 ** 39, -(10 ** 39)]
+    strings = ["", " ", "A", "a b", "~", "\n", "a\n", "abcdefghi", "a1", "f(a)", "x" * 3000]
+    wide = [list(range(3000)), tuple(["a"] * 3000), {number: number for number in range(1400)}]
+    mixed = [[], [()], ((),), [[]], (None,), (True,), (0,), ("", ""), ("a", "b"), ("a", 1), ["a"], [("a",)]]
+    keyed = [{"a": 1}, {None: None}, {(): 0}, {0: ("a",)}, {("a",): None}]
+    words = [("if",), ("tell",), ("go",), ("with",), ("alike",), ("unlike",), ("met", ()), ("met", "met")]
+    return ([None, True, False] + numbers + strings + wide + mixed + keyed + words + made
+            + [errors.KeptError("x"), [made[0]], (made[0],), ("a", made[0]), {"a": made[0]}, {made[0]: 1}]
+            + [deep_list, deep_tuple, deep_dict])
+
+
+def strangers():
+    """A few values to put in the place of a part."""
+    return [None, True, False, 0, 1, "a", "if", "zz", (), [], {}, ("a",), ["a"], ("a", ("b",)), errors.NoText()]
+
+
+def twisted(thing):
+    """All values with one part of thing left out, added or exchanged, at any depth."""
+    for stranger in strangers():
+        yield stranger
+    if isinstance(thing, (tuple, list)):
+        yield list(thing) if isinstance(thing, tuple) else tuple(thing)
+        for at in range(len(thing)):
+            yield thing[:at] + thing[at + 1:]
+            yield thing[:at] + thing[at:at + 1] * 2 + thing[at + 1:]
+            yield thing[:at] + thing[at + 1:at + 2] + thing[at:at + 1] + thing[at + 2:]
+            for part in twisted(thing[at]):
+                yield thing[:at] + type(thing)([part]) + thing[at + 1:]
+        for stranger in strangers():
+            yield thing + type(thing)([stranger])
+            yield type(thing)([stranger]) + thing
+    if isinstance(thing, dict):
+        yield from _twisted_dicts(thing)
+
+
+def _twisted_dicts(thing):
+    for key in thing:
+        rest = {other: thing[other] for other in thing if other != key}
+        yield rest
+        yield list(thing.items())
+        for part in twisted(thing[key]):
+            yield {**rest, key: part}
+        for part in twisted(key):
+            if is_hashable(part):
+                yield {**rest, part: thing[key]}
+    for stranger in strangers():
+        if is_hashable(stranger):
+            yield {**thing, stranger: 1}
+        yield {**thing, ("a", 1): stranger}
+
+
+def is_hashable(thing):
+    try:
+        hash(thing)
+    except TypeError:
+        return False
+    return True
+
+
+def seen(thing):
+    """A text that tells values apart, also True from 1, and the order of keys."""
+    return repr(thing)
+
+
+def spoil(thing):
+    """Change each list and dict within thing."""
+    if isinstance(thing, (tuple, list)):
+        for part in thing:
+            spoil(part)
+    if isinstance(thing, dict):
+        for part in list(thing.values()):
+            spoil(part)
+        thing.clear()
+    if isinstance(thing, list):
+        thing.append("spoiled")
+        thing.reverse()
+
+
+def ask(case, function, *arguments):
+    """What a function tells, having seen that it changes nothing and tells the same again."""
+    before = seen(arguments)
+    first = function(*arguments)
+    told = copy.deepcopy(first)
+    case.assertEqual(seen(arguments), before, "arguments were changed")
+    spoil(first)
+    case.assertEqual(seen(arguments), before, "what was told holds a part of the arguments")
+    again = function(*arguments)
+    case.assertEqual(seen(again), seen(told), "the same call tells something else")
+    return again
+
+
+def random_terms(chance, many, names="abc", works="fg", parts=(1, 2)):
+    """A closed list of about so many terms, by a random.Random."""
+    pool = [(chance.choice(names),)]
+    while len(pool) < many:
+        if chance.random() < 0.45:
+            new = (chance.choice(names),)
+        else:
+            new = (chance.choice(works),) + tuple(chance.choice(pool) for _ in range(chance.choice(parts)))
+        if new not in pool:
+            pool.append(new)
+        elif chance.random() < 0.2:
+            break
+    return sorted(pool)
+
+
+def random_code(chance, pool, depth, ends=None):
+    """A code over a pool of terms with at most so many ifs on a way; guards have ends."""
+    if depth == 0 or chance.random() < 0.15:
+        return chance.choice(ends) if ends else ("tell", chance.choice(pool))
+    one, other = chance.choice(pool), chance.choice(pool)
+    yes = random_code(chance, pool, depth - 1, ends)
+    return ("if", one, other, yes, random_code(chance, pool, depth - 1, ends))
+
+
+def random_facts(chance, pool, many):
+    return [(chance.choice(("alike", "alike", "unlike")), chance.choice(pool), chance.choice(pool))
+            for _ in range(many)]
+
+
+def chances(seed):
+    return random.Random(seed)
