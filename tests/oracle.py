@@ -1,5 +1,6 @@
 """What the document says, worked out in the plainest way, without the package."""
 
+import functools
 import itertools
 import re
 
@@ -103,8 +104,13 @@ def keeps_works(shape):
     return True
 
 
+@functools.lru_cache(maxsize=None)
+def _shapes(terms):
+    return sorted(shape for shape in partitions(terms) if keeps_works(shape))
+
+
 def shapes(terms):
-    return sorted(shape for shape in partitions(list(terms)) if keeps_works(shape))
+    return list(_shapes(tuple(terms)))
 
 
 def world_of(shape):
@@ -115,9 +121,14 @@ def world_of(shape):
     return {key: world[key] for key in sorted(world)}
 
 
+@functools.lru_cache(maxsize=None)
+def _worlds(terms):
+    return [world_of(shape) for shape in _shapes(terms)]
+
+
 def worlds(terms):
     """One world for each shape of the closed list of some terms."""
-    return [world_of(shape) for shape in shapes(closed(terms))]
+    return _worlds(tuple(closed(terms)))
 
 
 def fact_terms(facts):

@@ -13,6 +13,16 @@ INTERFACE = {
     "terms": {"subterms": ("term",), "closed": ("terms",), "things": ("term",), "put_in": ("term", "names")},
     "worlds": {"worth": ("term", "world"), "alike": ("one", "other", "world"), "all_hold": ("facts", "world"),
                "thinned": ("world", "terms")},
+    "shapes": {"shape": ("terms", "world"), "is_shape": ("terms", "thing"), "shapes": ("terms",),
+               "finest": ("terms", "pairs"), "is_finer": ("one", "other"), "world_of": ("shape",)},
+    "facts": {"can_hold": ("facts",), "world_for": ("facts",), "follows": ("facts", "fact"),
+              "least_grounds": ("facts", "fact")},
+    "reasons": {"reason": ("facts", "one", "other"), "is_reason": ("facts", "one", "other", "thing")},
+    "codes": {"answer": ("code", "world"), "ways": ("code",), "asked": ("things",), "told_at": ("code", "shape"),
+              "depth": ("code",), "trimmed": ("code",)},
+    "sameness": {"do_same": ("one", "other"), "parting_world": ("one", "other"),
+                 "is_parting_world": ("one", "other", "thing"), "paper": ("one", "other"),
+                 "is_paper": ("one", "other", "thing"), "idle_ifs": ("code",), "lean": ("code",)},
 }
 
 

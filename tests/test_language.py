@@ -154,7 +154,8 @@ class LanguageTest(unittest.TestCase):
     def check_is(self, node, file):
         for sign, other in zip(node.ops, node.comparators):
             if isinstance(sign, (ast.Is, ast.IsNot)):
-                self.assertIn(getattr(other, "value", 0), (None, True, False), file)
+                self.assertIsInstance(other, ast.Constant, file)
+                self.assertIn(repr(other.value), ("None", "True", "False"), file)
 
     def test_sets_stand_where_they_may(self):
         for file in FILES:
