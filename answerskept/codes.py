@@ -65,11 +65,9 @@ def _led(word, code, side):
 
 
 def _trimmed(code, known):
-    if code[0] != "if":
-        return code
-    _, one, other, yes, no = code
-    told = known.tells(one, other)
-    if told is not None:
-        return _trimmed(yes if told else no, known)
+    here = known.led(code)
+    if here[0] != "if":
+        return here
+    _, one, other, yes, no = here
     less = _trimmed(yes, known.also(("alike", one, other)))
     return ("if", one, other, less, _trimmed(no, known.also(("unlike", one, other))))

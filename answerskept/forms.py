@@ -27,13 +27,25 @@ def is_term(thing):
     return True
 
 
+def is_fork(thing):
+    """Whether thing begins an if over two terms, whatever its sides are."""
+    if not isinstance(thing, tuple) or len(thing) != 5:
+        return False
+    return thing[0] == "if" and is_term(thing[1]) and is_term(thing[2])
+
+
+def is_tell(thing):
+    """Whether thing tells a term."""
+    return isinstance(thing, tuple) and len(thing) == 2 and thing[0] == "tell" and is_term(thing[1])
+
+
 def is_forked(thing, is_end):
     """Whether thing is made of ifs over terms, and of ends as a function tells them."""
     waiting = [thing]
     while waiting:
         part = waiting.pop()
         if not is_end(part):
-            if not _is_fork(part):
+            if not is_fork(part):
                 return False
             waiting.extend(part[3:])
     return True
@@ -41,7 +53,7 @@ def is_forked(thing, is_end):
 
 def is_code(thing):
     """Whether thing is a code."""
-    return is_forked(thing, _is_tell)
+    return is_forked(thing, is_tell)
 
 
 def is_guard(thing):
@@ -61,16 +73,6 @@ def is_world(thing):
     if not isinstance(thing, dict):
         return False
     return all([_is_key(key) and _is_count(much) for key, much in thing.items()])
-
-
-def _is_fork(thing):
-    if not isinstance(thing, tuple) or len(thing) != 5:
-        return False
-    return thing[0] == "if" and is_term(thing[1]) and is_term(thing[2])
-
-
-def _is_tell(thing):
-    return isinstance(thing, tuple) and len(thing) == 2 and thing[0] == "tell" and is_term(thing[1])
 
 
 def _is_guard_end(thing):

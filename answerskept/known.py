@@ -37,6 +37,16 @@ class Known:
         """Whether a fact follows."""
         return not self.can_be or self.tells(fact[1], fact[2]) == (fact[0] == "alike")
 
+    def led(self, code):
+        """Return the end, or the first if that is not settled, to which a code or a guard comes."""
+        here = code
+        while here[0] == "if":
+            told = self.tells(here[1], here[2])
+            if told is None:
+                return here
+            here = here[3] if told else here[4]
+        return here
+
     def some_world(self):
         """Return a world in which the facts hold, and no terms are alike that need not be."""
         return world_of(grouped(self.terms, self.lots))

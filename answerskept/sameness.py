@@ -69,6 +69,7 @@ def _same_by(known, one, other):
 
 def _compared(known, one, other, parted):
     """Return a paper of two codes, or put what is known where they part into parted."""
+    one, other = known.led(one), known.led(other)
     if one[0] == "tell" and other[0] == "tell":
         if known.tells(one[1], other[1]) is not True:
             parted.append(known)
@@ -76,9 +77,6 @@ def _compared(known, one, other, parted):
     if one[0] == "tell":
         one, other = other, one
     _, first, second, yes, no = one
-    told = known.tells(first, second)
-    if told is not None:
-        return _compared(known, yes if told else no, other, parted)
     left = _compared(known.also(("alike", first, second)), yes, other, parted)
     if parted:
         return left
@@ -111,13 +109,8 @@ def _is_right(known, one, other, thing):
 
 def _settled_end(known, code):
     """The term that a code comes to tell by ifs that are settled, or None."""
-    here = code
-    while here[0] == "if":
-        told = known.tells(here[1], here[2])
-        if told is None:
-            return None
-        here = here[3] if told else here[4]
-    return here[1]
+    end = known.led(code)
+    return end[1] if end[0] == "tell" else None
 
 
 def _find_idle(known, code, place, found):

@@ -5,6 +5,7 @@ import random
 import re
 
 from answerskept import errors
+from answerskept.programs import Program
 
 ERRORS = {
     "Wrong": ("place",), "TooMany": ("limit",), "Missing": ("name",), "Uneven": ("name",),
@@ -37,7 +38,7 @@ def terms(text):
 
 
 def code(text):
-    """The code, guard, fact or paper that a text writes, as in: if a b tell f(a) tell c."""
+    """The long code, guard, fact or paper that a text writes, as in: if a b go pick (a,b) tell c."""
     words = text.split()
     found = _read_code(words)
     assert not words, text
@@ -54,7 +55,32 @@ def _read_code(words):
         return ("tell", term(words.pop(0)))
     if word in ("alike", "unlike"):
         return (word, term(words.pop(0)), term(words.pop(0)))
+    if word == "with":
+        name, inner = words.pop(0), _read_code(words)
+        return ("with", name, inner, _read_code(words))
+    if word == "go":
+        name, handed = words.pop(0), words.pop(0)
+        return ("go", name, () if handed == "()" else term("x" + handed)[1:])
     return (word,)
+
+
+def functions(text):
+    """The functions that lines write, as in: pick a,b tell a."""
+    found = {}
+    for line in text.strip().split("\n"):
+        name, givens, rest = line.strip().split(" ", 2)
+        found[name] = (givens.split(","), code(rest))
+    return found
+
+
+def program(text):
+    """The Program that lines write, one for each function."""
+    return Program(functions(text))
+
+
+def functions_of(made):
+    """The functions of a Program, as it may be made of them."""
+    return {name: (made.givens(name), made.code(name)) for name in made.functions()}
 
 
 def facts(text):
@@ -77,6 +103,7 @@ def chain(names, end="a", work="f"):
 def any_values():
     """Values of all kinds that are none of what any form of the package tells."""
     made = [getattr(errors, name)(*(1 for _ in fields)) for name, fields in ERRORS.items()]
+    made += [errors.KeptError("x"), Program({"a": (["a"], ("tell", ("a",)))}), program("p a,b go q (a)\nq a tell a")]
     deep_list, deep_tuple, deep_dict = [], (), {}
     for _ in range(29):
         deep_list, deep_tuple, deep_dict = [deep_list], (deep_tuple,), {"a": deep_dict}
@@ -87,13 +114,15 @@ def any_values():
     keyed = [{"a": 1}, {None: None}, {(): 0}, {0: ("a",)}, {("a",): None}]
     words = [("if",), ("tell",), ("go",), ("with",), ("alike",), ("unlike",), ("met", ()), ("met", "met")]
     return ([None, True, False] + numbers + strings + wide + mixed + keyed + words + made
-            + [errors.KeptError("x"), [made[0]], (made[0],), ("a", made[0]), {"a": made[0]}, {made[0]: 1}]
+            + [part for each in (made[0], made[-1]) for part in ([each], (each,), ("a", each), {"a": each})]
+            + [{made[0]: 1}, {("a", made[0]): 0}]
             + [deep_list, deep_tuple, deep_dict])
 
 
 def strangers():
     """A few values to put in the place of a part."""
-    return [None, True, False, 0, 1, "a", "if", "zz", (), [], {}, ("a",), ["a"], ("a", ("b",)), errors.NoText()]
+    return [None, True, False, 0, 1, "a", "if", "zz", (), [], {}, ("a",), ["a"], ("a", ("b",)), errors.NoText(),
+            Program({"a": (["a"], ("tell", ("a",)))})]
 
 
 def twisted(thing):
@@ -140,7 +169,13 @@ def is_hashable(thing):
 
 
 def seen(thing):
-    """A text that tells values apart, also True from 1, and the order of keys."""
+    """A text that tells values apart, also True from 1, and the order of keys; Programs by their functions."""
+    if isinstance(thing, Program):
+        return "Program(" + repr(functions_of(thing)) + ")"
+    if isinstance(thing, dict):
+        return "{" + ", ".join(seen(key) + ": " + seen(thing[key]) for key in thing) + "}"
+    if type(thing) in (list, tuple):
+        return type(thing).__name__ + "(" + ", ".join(seen(part) for part in thing) + ")"
     return repr(thing)
 
 
@@ -193,6 +228,37 @@ def random_code(chance, pool, depth, ends=None):
     one, other = chance.choice(pool), chance.choice(pool)
     yes = random_code(chance, pool, depth - 1, ends)
     return ("if", one, other, yes, random_code(chance, pool, depth - 1, ends))
+
+
+def random_long(chance, pool, gos, depth, scope):
+    """A long code of at most so many levels: pool gives terms over a scope, gos are (function, number of givens)."""
+    kind = chance.choice(("tell", "if", "if", "with", "go")) if depth else chance.choice(("tell", "go"))
+    if kind == "go" and gos:
+        name, many = chance.choice(gos)
+        return ("go", name, tuple(pool(scope) for _ in range(many)))
+    if kind == "if":
+        yes, no = (random_long(chance, pool, gos, depth - 1, scope) for _ in range(2))
+        return ("if", pool(scope), pool(scope), yes, no)
+    if kind == "with":
+        name = chance.choice("abxyz")
+        inner = random_long(chance, pool, gos, depth - 1, scope)
+        return ("with", name, inner, random_long(chance, pool, gos, depth - 1, scope + [name]))
+    return ("tell", pool(scope))
+
+
+def random_functions(chance, many=4, depth=3, givens=5):
+    """Functions p, q, r, s as Program takes them, with gos to those further on."""
+    def pool(scope):
+        if chance.random() < 0.75:
+            return (chance.choice(scope),)
+        return (chance.choice("fga"),) + tuple((chance.choice(scope),) for _ in range(chance.randint(1, 2)))
+
+    found, gos = {}, []
+    for name in "srqp"[4 - many:]:
+        names = chance.sample("abcde", chance.randint(1, givens))
+        found[name] = (names, random_long(chance, pool, gos, depth, names))
+        gos.append((name, len(names)))
+    return found
 
 
 def random_facts(chance, pool, many):

@@ -251,3 +251,200 @@ def is_justified(facts, step, ahead):
     if first[0] != second[0] or len(first) != len(second) or len(first) == 1:
         return False
     return all(one == other or (one, other) in ahead for one, other in zip(first[1:], second[1:]))
+
+
+def is_long(thing):
+    if type(thing) is not tuple or not thing or type(thing[0]) is not str:
+        return False
+    if thing[0] == "with":
+        return len(thing) == 4 and is_name(thing[1]) and is_long(thing[2]) and is_long(thing[3])
+    if thing[0] == "go":
+        return len(thing) == 3 and is_name(thing[1]) and type(thing[2]) is tuple and all(map(is_term, thing[2]))
+    if thing[0] == "if":
+        return len(thing) == 5 and all(map(is_term, thing[1:3])) and all(map(is_long, thing[3:]))
+    return thing[0] == "tell" and len(thing) == 2 and is_term(thing[1])
+
+
+def are_givens(thing):
+    return (type(thing) in (list, tuple) and len(thing) > 0 and all(is_name(name) for name in thing)
+            and all(thing.count(name) == 1 for name in thing))
+
+
+def are_functions(thing):
+    return (type(thing) is dict and len(thing) > 0 and all(is_name(name) for name in thing)
+            and all(type(part) is tuple and len(part) == 2 and are_givens(part[0]) and is_long(part[1])
+                    for part in thing.values()))
+
+
+def gos(code):
+    if code[0] == "go":
+        return [(code[1], len(code[2]))]
+    return [go for part in code[1:] if is_long(part) for go in gos(part)]
+
+
+def leads(functions, start, goal, ahead=()):
+    """Whether gos lead from a function to another one."""
+    after = {name for name, _ in gos(functions[start][1])}
+    return goal in after or any(leads(functions, name, goal, ahead + (name,)) for name in after if name not in ahead)
+
+
+def things_of(term):
+    return [part[0] for part in subterms(term) if len(part) == 1]
+
+
+def loose(code, names):
+    if code[0] == "with":
+        return loose(code[2], names) + loose(code[3], names + [code[1]])
+    terms = code[2] if code[0] == "go" else [part for part in code[1:] if is_term(part)]
+    found = [name for term in terms for name in things_of(term) if name not in names]
+    return found + [name for part in code[1:] if is_long(part) for name in loose(part, names)]
+
+
+def refusal(functions):
+    """What stands against any value as functions of a Program: a tuple (error, argument ..), or None."""
+    if not are_functions(functions):
+        return ("Wrong", 0)
+    called = [go for _, code in functions.values() for go in gos(code)]
+    kinds = [("Missing", [(name,) for name, _ in called if name not in functions])]
+    kinds.append(("Uneven", [(name,) for name, many in called if name in functions and len(functions[name][0]) != many]))
+    if not kinds[0][1]:
+        kinds.append(("Round", [(name,) for name in functions if leads(functions, name, name)]))
+    kinds.append(("Loose", [(name, each) for name, (givens, code) in functions.items()
+                            for each in loose(code, list(givens))]))
+    return next(((word,) + min(found) for word, found in kinds if found), None)
+
+
+def put(term, names):
+    if len(term) == 1:
+        return names[term[0]] if term[0] in names else term
+    return (term[0],) + tuple(put(part, names) for part in term[1:])
+
+
+def whole(functions, name):
+    givens, code = functions[name]
+    return _whole(functions, code, {given: (given,) for given in givens})
+
+
+def _whole(functions, code, names):
+    if code[0] == "tell":
+        return ("tell", put(code[1], names))
+    if code[0] == "if":
+        yes, no = (_whole(functions, part, names) for part in code[3:])
+        return ("if", put(code[1], names), put(code[2], names), yes, no)
+    if code[0] == "go":
+        givens, inside = functions[code[1]]
+        return _whole(functions, inside, dict(zip(givens, [put(term, names) for term in code[2]])))
+    inner = _whole(functions, code[2], names)
+    return _at_tells(inner, lambda term: _whole(functions, code[3], {**names, code[1]: term}))
+
+
+def _at_tells(code, make):
+    if code[0] == "tell":
+        return make(code[1])
+    return code[:3] + (_at_tells(code[3], make), _at_tells(code[4], make))
+
+
+def ran(functions, name, world):
+    givens, code = functions[name]
+    return _run(functions, code, {given: world.get((given,), 0) for given in givens}, world)
+
+
+def _run(functions, code, worths, world):
+    def much(term):
+        if len(term) == 1:
+            return worths[term[0]]
+        return world.get((term[0],) + tuple(much(part) for part in term[1:]), 0)
+
+    if code[0] == "tell":
+        return much(code[1])
+    if code[0] == "if":
+        return _run(functions, code[3 if much(code[1]) == much(code[2]) else 4], worths, world)
+    if code[0] == "go":
+        givens, inside = functions[code[1]]
+        return _run(functions, inside, dict(zip(givens, map(much, code[2]))), world)
+    return _run(functions, code[3], {**worths, code[1]: _run(functions, code[2], worths, world)}, world)
+
+
+def places_of(part):
+    """A dict from the places of a long code, or of a term, to what is there."""
+    steps = {"tell": [(1,)], "if": [(1,), (2,), (3,), (4,)], "with": [(2,), (3,)]}
+    if part[0] == "go":
+        steps["go"] = [(2, number) for number in range(len(part[2]))]
+    found = {(): part}
+    for step in steps.get(part[0], [(number,) for number in range(1, len(part))]):
+        below = part[step[0]] if len(step) == 1 else part[2][step[1]]
+        found.update({step + place: each for place, each in places_of(below).items()})
+    return found
+
+
+def put_at(code, place, part):
+    if not place:
+        return part
+    return code[:place[0]] + (put_at(code[place[0]], place[1:], part),) + code[place[0] + 1:]
+
+
+def is_edit(functions, thing):
+    if type(thing) is not tuple or len(thing) != 3 or not is_name(thing[0]) or thing[0] not in functions:
+        return False
+    if type(thing[1]) is not tuple or not all(is_integer(step) for step in thing[1]):
+        return False
+    there = places_of(functions[thing[0]][1])
+    return thing[1] in there and (is_term if is_term(there[thing[1]]) else is_long)(thing[2])
+
+
+def begins(one, other):
+    """Whether the place of one of two edits of one function begins that of the other."""
+    many = min(len(one[1]), len(other[1]))
+    return one[0] == other[0] and one[1][:many] == other[1][:many]
+
+
+def edited(functions, edits):
+    """The functions with all edits made, or a tuple (error, argument ..)."""
+    overlaps = [(at, to) for at in range(len(edits)) for to in range(at + 1, len(edits)) if begins(edits[at], edits[to])]
+    if overlaps:
+        return ("Overlap",) + min(overlaps)
+    found = dict(functions)
+    for name, place, part in edits:
+        found[name] = (found[name][0], put_at(found[name][1], place, part))
+    return refusal(found) or found
+
+
+def least_edits(functions, edits, name):
+    goal = whole(edited(functions, edits), name)
+
+    def does(lot):
+        made = edited(functions, [edits[at] for at in lot])
+        return type(made) is dict and do_same(whole(made, name), goal)
+
+    return least(len(edits), does)
+
+
+def guard_holds(guard, world):
+    if guard[0] == "if":
+        return guard_holds(guard[3 if holds(("alike", guard[1], guard[2]), world) else 4], world)
+    return guard == ("yes",)
+
+
+def fewest_tests(guard):
+    """The least depth, by trying each depth in turn."""
+    pool = closed(code_terms(guard))
+    told = [(world, guard_holds(guard, world)) for world in worlds(pool)]
+    return next(many for many in itertools.count() if _are_told(told, list(itertools.combinations(pool, 2)), many))
+
+
+def _are_told(told, pairs, many):
+    """Whether so many tests tell in which of some worlds a guard holds."""
+    if len({holding for _, holding in told}) < 2:
+        return True
+    if not many:
+        return False
+    for one, other in pairs:
+        sides = [[row for row in told if holds((word, one, other), row[0])] for word in ("alike", "unlike")]
+        if all(sides) and all(_are_told(side, pairs, many - 1) for side in sides):
+            return True
+    return False
+
+
+def worlds_of(*things):
+    """One world for each shape of the asked terms of some codes and guards."""
+    return worlds([term for thing in things for term in code_terms(thing)])

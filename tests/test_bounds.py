@@ -1,10 +1,10 @@
 """Inputs at the bounds of [4], each answered within a moment, and rightly."""
 
-import time
 import unittest
 
 import oracle
-from helpers import ask, chances, random_facts, terms
+from bounds import SEVENS, SIXES, QuickTest, large_code, thirty_keys
+from helpers import chances, random_facts
 
 from answerskept.codes import answer, asked, depth, told_at, trimmed, ways
 from answerskept.facts import can_hold, follows, least_grounds, world_for
@@ -14,50 +14,8 @@ from answerskept.sameness import do_same, idle_ifs, is_paper, is_parting_world, 
 from answerskept.shapes import finest, shape, shapes
 from answerskept.worlds import all_hold, thinned
 
-# Far more than any of these calls needs, and far less than trying all worlds over numbers would.
-MOMENT = 5
 
-SEVENS = [terms("a b c d e g h"), oracle.closed(terms("f(f(a)) f(b) g(a,b) g(b,a)")),
-          oracle.closed(terms("f(f(f(f(f(f(a))))))")), oracle.closed(terms("f(a) f(b) f(c) h"))]
-SIXES = [terms("a b c d e g"), oracle.closed(terms("f(a) f(b) g(a,b) g(b,a)")), oracle.closed(terms("f(f(f(a))) f(b)"))]
-
-
-def large_code(chance, pool):
-    """A code with sixteen ways and at most five ifs on each of them."""
-    code = ("tell", chance.choice(pool))
-    while len(oracle.ways(code)) < 16:
-        code = _grown(chance, pool, code, 5)
-    return code
-
-
-def _grown(chance, pool, code, most):
-    if code[0] == "tell":
-        if most == 0:
-            return code
-        one, other = chance.sample(pool, 2)
-        return ("if", one, other, ("tell", chance.choice(pool)), ("tell", chance.choice(pool)))
-    if chance.random() < 0.5:
-        return code[:3] + (_grown(chance, pool, code[3], most - 1), code[4])
-    return code[:4] + (_grown(chance, pool, code[4], most - 1),)
-
-
-def thirty_keys(chance, pool):
-    """A world with thirty keys, some of which the terms ask for."""
-    world = {}
-    while len(world) < 30:
-        each = chance.choice(pool)
-        key = (each[0],) + tuple(chance.randint(0, 3) for _ in each[1:])
-        world[key if chance.random() < 0.7 else ("q", len(world))] = chance.randint(0, 3)
-    return world
-
-
-class BoundsTest(unittest.TestCase):
-    def quick(self, function, *arguments):
-        begin = time.perf_counter()
-        told = ask(self, function, *arguments)
-        self.assertLess(time.perf_counter() - begin, MOMENT, function.__name__)
-        return told
-
+class BoundsTest(QuickTest):
     def test_shapes_of_seven_terms(self):
         for pool in SEVENS:
             self.assertEqual(len(pool), 7)

@@ -2,6 +2,7 @@
 
 import importlib
 import inspect
+import pathlib
 import unittest
 
 from helpers import ERRORS
@@ -23,6 +24,19 @@ INTERFACE = {
     "sameness": {"do_same": ("one", "other"), "parting_world": ("one", "other"),
                  "is_parting_world": ("one", "other", "thing"), "paper": ("one", "other"),
                  "is_paper": ("one", "other", "thing"), "idle_ifs": ("code",), "lean": ("code",)},
+    "programs": {"is_long": ("thing",), "Program": ("functions",)},
+    "whole": {"whole": ("program", "function"), "ran": ("program", "function", "world")},
+    "places": {"places": ("program", "function"), "part_at": ("program", "function", "place"), "is_edit": ("program", "thing"),
+               "edited": ("program", "edits"), "least_edits": ("program", "edits", "function")},
+    "guards": {"guard_holds": ("guard", "world"), "can": ("guard",), "same_guard": ("one", "other"), "within": ("one", "other"),
+               "both": ("one", "other"), "either": ("one", "other"), "opposite": ("guard",), "guard_world": ("guard",),
+               "fewest_tests": ("guard",), "shallow": ("guard",)},
+    "changes": {"changes_in": ("base", "after", "world"), "is_idle": ("base", "after"), "is_less": ("base", "one", "other"),
+                "where": ("base", "after"), "narrowed": ("base", "after", "guard"), "common": ("base", "one", "other")},
+}
+METHODS = {
+    ("programs", "Program"): {"functions": (), "givens": ("function",), "code": ("function",), "reaches": ("function",),
+                              "with_code": ("function", "code"), "__init__": ("functions",), "__eq__": ("other",)},
 }
 
 
@@ -35,6 +49,20 @@ class InterfaceTest(unittest.TestCase):
                 self.assertEqual(thing.__module__, "answerskept." + file, name)
                 if arguments or inspect.isfunction(thing):
                     self.assertEqual(tuple(inspect.signature(thing).parameters), arguments, name)
+
+    def test_methods_stand_in_their_classes(self):
+        for (file, name), methods in METHODS.items():
+            made = getattr(importlib.import_module("answerskept." + file), name)
+            for method, arguments in methods.items():
+                self.assertIn(method, vars(made))
+                self.assertEqual(tuple(inspect.signature(vars(made)[method]).parameters)[1:], arguments, method)
+
+    def test_errors_are_kept_in_their_file(self):
+        for path in sorted(pathlib.Path(importlib.import_module("answerskept").__file__).parent.glob("*.py")):
+            module = importlib.import_module("answerskept." + path.stem) if path.stem != "__init__" else None
+            for thing in vars(module).values() if module else ():
+                if inspect.isclass(thing) and issubclass(thing, ValueError) and thing is not ValueError:
+                    self.assertEqual(thing.__module__, "answerskept.errors")
 
 
 if __name__ == "__main__":
