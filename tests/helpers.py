@@ -261,6 +261,29 @@ def random_functions(chance, many=4, depth=3, givens=5):
     return found
 
 
+def random_afters(chance, pool, many, depth=2):
+    """A base and afters: of all kinds, with equal ones, idle ones, and ones that change it here and there."""
+    base = random_code(chance, pool, depth)
+    afters = []
+    while len(afters) < many:
+        one, other = chance.choice(pool), chance.choice(pool)
+        new = random_code(chance, pool, depth)
+        kinds = [new, new, ("tell", one), ("if", one, other, new, base), ("if", one, other, base, new), base, ("if", one, other, base, base),
+                 ("if", one, other, new, base)] + afters[:1] + [("if", one, other, after, after) for after in afters[:1]]
+        kinds += [("if", one, other, after, base) for after in afters]
+        afters.append(chance.choice(kinds))
+    return base, afters
+
+
+def random_rows(seeds, most=5, depth=2):
+    """Rows (chance, pool, base, afters) over a few terms, that a plain oracle can judge."""
+    for seed in range(seeds):
+        chance = chances(seed)
+        pool = [each for each in random_terms(chance, 4)]
+        if all(part in pool for each in pool for part in each[1:]) and len(pool) <= most:
+            yield (chance, sorted(pool)) + random_afters(chance, sorted(pool), chance.randint(1, 5), depth)
+
+
 def random_facts(chance, pool, many):
     return [(chance.choice(("alike", "alike", "unlike")), chance.choice(pool), chance.choice(pool))
             for _ in range(many)]

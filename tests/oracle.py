@@ -448,3 +448,83 @@ def _are_told(told, pairs, many):
 def worlds_of(*things):
     """One world for each shape of the asked terms of some codes and guards."""
     return worlds([term for thing in things for term in code_terms(thing)])
+
+
+def wanted(base, afters, world):
+    start = answer(base, world)
+    told = {answer(after, world) for after in afters} - {start}
+    return None if len(told) > 1 else max(told, default=start)
+
+
+def loses(base, afters, code, world):
+    told = wanted(base, afters, world)
+    return told is not None and answer(code, world) != told
+
+
+def odd_pairs(base, afters, guard=("yes",)):
+    """The tuples of two afters that quarrel in some world in which a guard holds."""
+    return [(one, other) for one, other in itertools.combinations(range(len(afters)), 2)
+            if any(wanted(base, [afters[one], afters[other]], world) is None and guard_holds(guard, world)
+                   for world in worlds_of(base, afters[one], afters[other], guard))]
+
+
+def can_be_kept(base, afters):
+    return all(wanted(base, afters, world) is not None for world in worlds_of(base, *afters))
+
+
+def greatest(many, does):
+    """The greatest lots of so many indexes that do something."""
+    lots = [lot for size in range(many + 1) for lot in itertools.combinations(range(many), size) if does(lot)]
+    return sorted(lot for lot in lots if not any(set(lot) < set(other) for other in lots))
+
+
+def first_after(base, afters, order, world):
+    """The index of the first after in an order that changes the base in a world, or None."""
+    return next((index for index in order if answer(afters[index], world) != answer(base, world)), None)
+
+
+def settled_answer(base, afters, order, world):
+    index = first_after(base, afters, order, world)
+    return answer(base if index is None else afters[index], world)
+
+
+def orders(afters):
+    return list(itertools.permutations(range(len(afters))))
+
+
+def order_lots(base, afters):
+    lots = {}
+    for order in orders(afters):
+        told = tuple(settled_answer(base, afters, order, world) for world in worlds_of(base, *afters))
+        lots.setdefault(told, []).append(order)
+    return sorted(lots.values())
+
+
+def clashes(sheets):
+    return sorted((one, at, other, to) for one, other in itertools.combinations(range(len(sheets)), 2)
+                  for at, edit in enumerate(sheets[one]) for to, second in enumerate(sheets[other])
+                  if edit != second and begins(edit, second))
+
+
+def merged(functions, sheets):
+    """The functions with all edits of all sheets, or a tuple (error, argument ..)."""
+    if clashes(sheets):
+        return ("Clash", clashes(sheets)[0][:2], clashes(sheets)[0][2:])
+    edits = [edit for sheet in sheets for edit in sheet]
+    return edited(functions, [edit for at, edit in enumerate(edits) if edit not in edits[:at]])
+
+
+def verdict(functions, sheets, name):
+    together = merged(functions, sheets)
+    base, afters = whole(functions, name), [whole(edited(functions, sheet), name) for sheet in sheets]
+    if type(together) is dict:
+        code = whole(together, name)
+        if any(loses(base, afters, code, world) for world in worlds_of(base, code, *afters)):
+            return ("clean", "lost")
+    first = "clean" if type(together) is dict else "clash" if together[0] == "Clash" else "broken"
+    return (first, "kept" if can_be_kept(base, afters) else "quarrel")
+
+
+def losing_lots(functions, sheets, name):
+    return least(len(sheets), lambda lot: len(lot) > 0 and verdict(
+        functions, [sheets[at] for at in lot], name) == ("clean", "lost"))

@@ -1,13 +1,19 @@
-"""Promises [5] and [2]: answers hang on shapes, and doing the same means equal answers in all worlds."""
+"""Promises [5], [7] and [2]: answers hang on shapes, doing the same means equal answers in all worlds,
+and afters can be kept if each two of them can."""
 
 import itertools
 import unittest
 
 import oracle
-from helpers import chances, random_code, random_facts, random_terms, term
+from helpers import chances, random_code, random_facts, random_rows, random_terms, term
 
+from answerskept.changes import changes_in
 from answerskept.codes import answer, asked, told_at, ways
+from answerskept.errors import Quarrel
+from answerskept.keeping import kept, keeps, quarrel_world, wanted
+from answerskept.many import quarrels
 from answerskept.sameness import do_same
+from answerskept.settling import settled
 from answerskept.shapes import is_shape, shape, shapes, world_of
 from answerskept.worlds import all_hold, worth
 
@@ -68,6 +74,53 @@ class GuaranteesTest(unittest.TestCase):
             if set(asked([one, other])) <= set(pool):
                 same = all(answer(one, world) == answer(other, world) for world in worlds)
                 self.assertIs(do_same(one, other), same, (one, other))
+
+    def test_any_number_can_be_kept_if_each_two_can(self):
+        found = {True: 0, False: 0}
+        for _, _, base, afters in random_rows(300):
+            pairs = list(itertools.combinations(range(len(afters)), 2))
+            each_two = all(self.can_be_kept(base, [afters[one], afters[other]]) for one, other in pairs)
+            self.assertIs(self.can_be_kept(base, afters), each_two, (base, afters))
+            self.assertIs(quarrels(base, afters) == [], each_two)
+            self.assertIs(oracle.can_be_kept(base, afters), each_two)
+            found[each_two] += len(afters) > 2
+        self.assertGreater(min(found.values()), 30)
+
+    def can_be_kept(self, base, afters):
+        """Whether there is a code that keeps afters, by all that the package tells of it."""
+        try:
+            made = kept(base, afters)
+        except Quarrel:
+            self.assertIsNotNone(quarrel_world(base, afters))
+            for each in afters + [base]:
+                self.assertIs(keeps(base, afters, each), False)
+            return False
+        self.assertIsNone(quarrel_world(base, afters))
+        self.assertIs(keeps(base, afters, made), True)
+        return True
+
+    def test_two_can_be_kept_unless_they_change_the_base_and_are_unlike(self):
+        for _, _, base, afters in random_rows(120):
+            for one, other in itertools.combinations(afters, 2):
+                worlds = oracle.worlds_of(base, one, other)
+                odd = [world for world in worlds if changes_in(base, one, world) and changes_in(base, other, world)
+                       and answer(one, world) != answer(other, world)]
+                self.assertIs(self.can_be_kept(base, [one, other]), not odd)
+                for world in worlds:
+                    self.assertIs(wanted(base, [one, other], world) is None, world in odd)
+
+    def test_all_codes_that_keep_them_do_the_same(self):
+        found = 0
+        for chance, pool, base, afters in random_rows(200):
+            if quarrels(base, afters):
+                continue
+            made = kept(base, afters)
+            order = tuple(chance.sample(range(len(afters)), len(afters)))
+            for each in afters + [base, settled(base, afters, order), kept(base, afters[::-1]), random_code(chance, pool, 2),
+                                  ("if", pool[0], pool[-1], afters[0], made)]:
+                self.assertIs(keeps(base, afters, each), do_same(each, made), (base, afters, each))
+                found += keeps(base, afters, each) and each != made
+        self.assertGreater(found, 100)
 
 
 if __name__ == "__main__":

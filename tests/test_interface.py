@@ -33,6 +33,16 @@ INTERFACE = {
                "fewest_tests": ("guard",), "shallow": ("guard",)},
     "changes": {"changes_in": ("base", "after", "world"), "is_idle": ("base", "after"), "is_less": ("base", "one", "other"),
                 "where": ("base", "after"), "narrowed": ("base", "after", "guard"), "common": ("base", "one", "other")},
+    "keeping": {"wanted": ("base", "afters", "world"), "quarrel_world": ("base", "afters"),
+                "losing_world": ("base", "afters", "code"), "is_quarrel_world": ("base", "afters", "thing"),
+                "is_losing_world": ("base", "afters", "code", "thing"), "keeps": ("base", "afters", "code"), "kept": ("base", "afters")},
+    "peace": {"peace": ("base", "afters"), "kept_under": ("base", "afters", "guard")},
+    "many": {"quarrels": ("base", "afters"), "kept_lots": ("base", "afters"), "left_out": ("base", "afters")},
+    "settling": {"settled": ("base", "afters", "order"), "shows": ("base", "afters", "order", "index"),
+                 "orders_for": ("base", "afters", "wishes"), "order_lots": ("base", "afters")},
+    "merging": {"made": ("program", "sheets"), "clashes": ("sheets",), "losing_lots": ("program", "sheets", "function"),
+                "merged": ("program", "sheets"), "verdict": ("program", "sheets", "function"),
+                "lost_world": ("program", "sheets", "function"), "is_lost_world": ("program", "sheets", "function", "thing")},
 }
 METHODS = {
     ("programs", "Program"): {"functions": (), "givens": ("function",), "code": ("function",), "reaches": ("function",),
