@@ -15,6 +15,13 @@ def is_name(thing):
     return thing not in _NO_NAMES and all(["a" <= sign <= "z" for sign in thing])
 
 
+def are_names(thing):
+    """Whether thing is a list or a tuple of different names, at least one."""
+    if not isinstance(thing, (list, tuple)) or not thing or not all([is_name(name) for name in thing]):
+        return False
+    return len(set(thing)) == len(thing)
+
+
 def is_term(thing):
     """Whether thing is a name with any number of terms as its parts."""
     # A list of what is left to look at, since terms may be deeper than calls should be.

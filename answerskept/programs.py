@@ -1,7 +1,7 @@
 """Programs: functions with long codes, which go on as one another [50]."""
 
 from answerskept.errors import Loose, Missing, NoFunction, Round, Uneven, Wrong
-from answerskept.forms import is_fork, is_name, is_tell, is_term
+from answerskept.forms import are_names, is_fork, is_name, is_tell, is_term
 from answerskept.longs import gos_in, loose_in
 
 
@@ -85,13 +85,7 @@ def _are_functions(thing):
 def _is_function(thing):
     if not isinstance(thing, tuple) or len(thing) != 2:
         return False
-    return _are_givens(thing[0]) and is_long(thing[1])
-
-
-def _are_givens(thing):
-    if not isinstance(thing, (list, tuple)) or not thing or not all([is_name(name) for name in thing]):
-        return False
-    return len(set(thing)) == len(thing)
+    return are_names(thing[0]) and is_long(thing[1])
 
 
 def _refuse_gos(functions, gos):

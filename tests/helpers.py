@@ -5,6 +5,7 @@ import random
 import re
 
 from answerskept import errors
+from answerskept.machines import Machine
 from answerskept.programs import Program
 
 ERRORS = {
@@ -64,6 +65,25 @@ def _read_code(words):
     return (word,)
 
 
+def claim(text):
+    """The claim that a text writes, as in: if a b yes no c."""
+    words = text.split()
+    guard = _read_code(words)
+    return (guard, term(*words))
+
+
+def machine_rules(text):
+    """The rules that a text writes, as in: u1x v0y / u0x v0x."""
+    rows = [re.findall("([a-z])([0-9]+)([a-z]+)", part) for part in text.split("/")]
+    return [{name: (int(later), output) for name, later, output in row} for row in rows]
+
+
+def machine(text):
+    """The Machine that a text writes by its rules."""
+    rules = machine_rules(text)
+    return Machine(list(rules[0]), rules)
+
+
 def functions(text):
     """The functions that lines write, as in: pick a,b tell a."""
     found = {}
@@ -103,7 +123,7 @@ def chain(names, end="a", work="f"):
 def any_values():
     """Values of all kinds that are none of what any form of the package tells."""
     made = [getattr(errors, name)(*(1 for _ in fields)) for name, fields in ERRORS.items()]
-    made += [errors.KeptError("x"), Program({"a": (["a"], ("tell", ("a",)))}), program("p a,b go q (a)\nq a tell a")]
+    made += [errors.KeptError("x"), Program({"a": (["a"], ("tell", ("a",)))}), program("p a,b go q (a)\nq a tell a"), machine("a0a")]
     deep_list, deep_tuple, deep_dict = [], (), {}
     for _ in range(29):
         deep_list, deep_tuple, deep_dict = [deep_list], (deep_tuple,), {"a": deep_dict}
@@ -122,7 +142,7 @@ def any_values():
 def strangers():
     """A few values to put in the place of a part."""
     return [None, True, False, 0, 1, "a", "if", "zz", (), [], {}, ("a",), ["a"], ("a", ("b",)), errors.NoText(),
-            Program({"a": (["a"], ("tell", ("a",)))})]
+            Program({"a": (["a"], ("tell", ("a",)))}), machine("a0a")]
 
 
 def twisted(thing):
@@ -172,6 +192,8 @@ def seen(thing):
     """A text that tells values apart, also True from 1, and the order of keys; Programs by their functions."""
     if isinstance(thing, Program):
         return "Program(" + repr(functions_of(thing)) + ")"
+    if isinstance(thing, Machine):
+        return "Machine(" + repr(thing.rules()) + ")"
     if isinstance(thing, dict):
         return "{" + ", ".join(seen(key) + ": " + seen(thing[key]) for key in thing) + "}"
     if type(thing) in (list, tuple):
@@ -277,11 +299,47 @@ def random_afters(chance, pool, many, depth=2):
 
 def random_rows(seeds, most=5, depth=2):
     """Rows (chance, pool, base, afters) over a few terms, that a plain oracle can judge."""
+    for chance, pool in random_pools(seeds, most):
+        yield (chance, pool) + random_afters(chance, pool, chance.randint(1, 5), depth)
+
+
+def random_versions(chance, pool, many, depth=2):
+    """Versions of which some turn little, some nothing, some back to what stood ahead."""
+    found = [random_code(chance, pool, depth)]
+    while len(found) < many:
+        one, other, new, last = chance.choice(pool), chance.choice(pool), random_code(chance, pool, depth), found[-1]
+        found.append(chance.choice([new, ("if", one, other, new, last), ("if", one, other, last, new), last, ("tell", one),
+                                    ("if", one, other, last, last), chance.choice(found), ("if", one, other, chance.choice(found), last)]))
+    return found
+
+
+def random_pools(seeds, most=5):
+    """Tuples (chance, closed list of a few terms), one for each of some of so many seeds."""
     for seed in range(seeds):
         chance = chances(seed)
-        pool = [each for each in random_terms(chance, 4)]
+        pool = sorted(random_terms(chance, 4))
         if all(part in pool for each in pool for part in each[1:]) and len(pool) <= most:
-            yield (chance, sorted(pool)) + random_afters(chance, sorted(pool), chance.randint(1, 5), depth)
+            yield chance, pool
+
+
+def random_claims(chance, pool, many, depth=2):
+    """Claims over a pool of terms."""
+    ends = [("yes",), ("no",)]
+    return [(random_code(chance, pool, depth, ends), chance.choice(pool)) for _ in range(many)]
+
+
+def of_ways(each):
+    """The claims that a code keeps by its ways: that on each of them its end is told."""
+    if each[0] != "if":
+        return [(("yes",), each[1])]
+    _, one, other, yes, no = each
+    return ([(("if", one, other, guard, ("no",)), end) for guard, end in of_ways(yes)]
+            + [(("if", one, other, ("no",), guard), end) for guard, end in of_ways(no)])
+
+
+def random_rules(chance, states, inputs="uv", outputs="xy"):
+    """The rules of a machine with so many states."""
+    return [{name: (chance.randrange(states), chance.choice(outputs)) for name in inputs} for _ in range(states)]
 
 
 def random_facts(chance, pool, many):

@@ -528,3 +528,162 @@ def verdict(functions, sheets, name):
 def losing_lots(functions, sheets, name):
     return least(len(sheets), lambda lot: len(lot) > 0 and verdict(
         functions, [sheets[at] for at in lot], name) == ("clean", "lost"))
+
+
+def carried_answer(before, after, base, world):
+    return answer(after if answer(base, world) == answer(before, world) else base, world)
+
+
+def is_left(before, after, base, world):
+    start, goal, told = (answer(code, world) for code in (before, after, base))
+    return start != goal and told != start and told != goal
+
+
+def is_exact(before, after, base):
+    return all(answer(before, world) in (answer(after, world), answer(base, world))
+               for world in worlds_of(before, after, base))
+
+
+def led_by(versions, steps, world):
+    """The answer, in a world, of what comes of the first version by steps carried to it in order."""
+    told = answer(versions[0], world)
+    for step in steps:
+        told = answer(versions[step], world) if told == answer(versions[step - 1], world) else told
+    return told
+
+
+def steps_but(versions, lot=()):
+    return [step for step in range(1, len(versions)) if step not in lot]
+
+
+def hangs(versions, world):
+    lots = [lot for size in range(len(versions)) for lot in itertools.combinations(range(1, len(versions)), size)
+            if led_by(versions, steps_but(versions, lot), world) != answer(versions[-1], world)]
+    return sorted(lot for lot in lots if not any({*less} < {*lot} for less in lots))
+
+
+def can_turn(versions, step):
+    turned = sorted(steps_but(versions), key=lambda each: step + 1.5 if each == step else each)
+    return all(led_by(versions, turned, world) == led_by(versions, steps_but(versions), world)
+               for world in worlds_of(*versions))
+
+
+def is_claim(thing):
+    return type(thing) is tuple and len(thing) == 2 and bool(is_guard(thing[0])) and bool(is_term(thing[1]))
+
+
+def breaks(code, claim, world):
+    return guard_holds(claim[0], world) and answer(code, world) != worth(claim[1], world)
+
+
+def keeps_claim(code, claim):
+    return not any(breaks(code, claim, world) for world in worlds_of(claim[0], code, ("tell", claim[1])))
+
+
+def at_ends(guard, yes, no):
+    """The code that goes on as yes where a guard holds, and else as no."""
+    if guard[0] != "if":
+        return yes if guard == ("yes",) else no
+    return guard[:3] + (at_ends(guard[3], yes, no), at_ends(guard[4], yes, no))
+
+
+def stands(base, claim, guard):
+    """By trying codes that tell one term where the guard holds, also a thing that nothing else asks for."""
+    pool = closed(code_terms(base) + code_terms(claim[0]) + code_terms(guard) + [claim[1]]) + [("newthing",)]
+    return all(keeps_claim(at_ends(guard, ("tell", term), base), claim) for term in pool)
+
+
+def lost_claims(base, afters, code, claims):
+    return [at for at, claim in enumerate(claims)
+            if all(keeps_claim(each, claim) for each in [base, *afters]) and not keeps_claim(code, claim)]
+
+
+def pins(codes, index, claims):
+    kept = [[keeps_claim(code, claim) for claim in claims] for code in codes]
+    others = [at for at, code in enumerate(codes) if not do_same(code, codes[index])]
+    return least(len(claims), lambda lot: all(kept[index][at] for at in lot)
+                 and all(not all(kept[other][at] for at in lot) for other in others))
+
+
+def told_apart(codes, claims):
+    kept = [[keeps_claim(code, claim) for claim in claims] for code in codes]
+    lots = [[at for at, row in enumerate(kept) if row == each] for each in kept]
+    return [lot for at, lot in enumerate(lots) if lot[0] == at]
+
+
+def wrong_place(inputs, rules):
+    """The place that Machine finds wrong in any values, or None."""
+    if not are_givens(inputs):
+        return 0
+    if type(rules) not in (list, tuple) or not rules or not all(type(rule) is dict for rule in rules):
+        return 1
+    steps = [step for rule in rules for step in rule.values()]
+    if any(sorted(map(repr, rule)) != sorted(map(repr, inputs)) for rule in rules):
+        return 1
+    right = all(type(step) is tuple and len(step) == 2 and is_integer(step[0]) and step[0] in range(len(rules))
+                and is_name(step[1]) for step in steps)
+    return None if right else 1
+
+
+def rows(inputs, longest, shortest=0):
+    """All rows of inputs up to a length, the shorter ones first."""
+    return [list(row) for many in range(shortest, longest + 1) for row in itertools.product(sorted(inputs), repeat=many)]
+
+
+def state_behind(rules, row, state=0):
+    return state_behind(rules, row[1:], rules[state][row[0]][0]) if row else state
+
+
+def said(rules, row, state=0):
+    return [rules[state_behind(rules, row[:at], state)][name][1] for at, name in enumerate(row)]
+
+
+def parting_lengths(one, other):
+    """A dict from tuples of two states that say unlike things to the length of the shortest row at which they do."""
+    every = [(first, second) for first in range(len(one)) for second in range(len(other))]
+    found, many = {}, 0
+    while True:
+        many += 1
+        new = [(first, second) for first, second in every if (first, second) not in found and any(
+            (one[first][name][0], other[second][name][0]) in found if many > 1
+            else one[first][name][1] != other[second][name][1] for name in one[0])]
+        if not new:
+            return found
+        found.update({pair: many for pair in new})
+
+
+def pairs(one, other):
+    """The least closed list, ascending, or None."""
+    if (0, 0) in parting_lengths(one, other):
+        return None
+    found = [(0, 0)]
+    for first, second in found:
+        for name in one[0]:
+            behind = (one[first][name][0], other[second][name][0])
+            found += [behind] if behind not in found else []
+    return sorted(found)
+
+
+def are_pairs(one, other, thing):
+    if type(thing) is not list or not all(type(pair) is tuple and len(pair) == 2 and all(map(is_integer, pair)) for pair in thing):
+        return False
+    if not all(first in range(len(one)) and second in range(len(other)) for first, second in thing):
+        return False
+    if any(thing.count(pair) > 1 for pair in thing) or (0, 0) not in thing:
+        return False
+    return all(one[first][name][1] == other[second][name][1] and (one[first][name][0], other[second][name][0]) in thing
+               for first, second in thing for name in one[0])
+
+
+def folded(rules):
+    """The rules with as few states as can be, numbered in the order of the rows that come to them first."""
+    unlike = parting_lengths(rules, rules)
+    firsts = []
+    for row in rows(rules[0], len(rules) - 1):
+        state = state_behind(rules, row)
+        if all((state, first) in unlike for first in firsts):
+            firsts.append(state)
+    number = {state: next(at for at, first in enumerate(firsts) if (state, first) not in unlike)
+              for state in {state_behind(rules, row + [name]) for row in rows(rules[0], len(rules) - 1) for name in rules[0]}}
+    return [{name: (number[rules[first][name][0]], rules[first][name][1]) for name in sorted(rules[first])}
+            for first in firsts]

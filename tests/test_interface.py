@@ -43,10 +43,22 @@ INTERFACE = {
     "merging": {"made": ("program", "sheets"), "clashes": ("sheets",), "losing_lots": ("program", "sheets", "function"),
                 "merged": ("program", "sheets"), "verdict": ("program", "sheets", "function"),
                 "lost_world": ("program", "sheets", "function"), "is_lost_world": ("program", "sheets", "function", "thing")},
+    "carrying": {"carried": ("before", "after", "base"), "over": ("base", "one", "other"), "left_world": ("before", "after", "base"),
+                 "is_exact": ("before", "after", "base"), "back_again": ("before", "after", "base")},
+    "versions": {"turns": ("versions", "world"), "idle_steps": ("versions",), "hangs": ("versions", "world"),
+                 "without": ("versions", "lot"), "can_turn": ("versions", "step")},
+    "claims": {"is_claim": ("thing",), "keeps_claim": ("code", "claim"), "is_breaking_world": ("code", "claim", "thing"),
+               "stands": ("base", "claim", "guard"), "breaking_world": ("code", "claim"),
+               "lost_claims": ("base", "afters", "code", "claims")},
+    "pinning": {"pins": ("codes", "index", "claims"), "told_apart": ("codes", "claims")},
+    "machines": {"Machine": ("inputs", "rules"), "folded": ("machine",), "say_same": ("one", "other"), "are_pairs": ("one", "other", "thing"),
+                 "parting_row": ("one", "other"), "pairs": ("one", "other")},
 }
 METHODS = {
     ("programs", "Program"): {"functions": (), "givens": ("function",), "code": ("function",), "reaches": ("function",),
                               "with_code": ("function", "code"), "__init__": ("functions",), "__eq__": ("other",)},
+    ("machines", "Machine"): {"inputs": (), "rules": (), "said": ("row",), "state_behind": ("row",),
+                              "__init__": ("inputs", "rules"), "__eq__": ("other",), "__len__": ()},
 }
 
 
