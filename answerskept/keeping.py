@@ -3,7 +3,7 @@
 from answerskept.codes import answer
 from answerskept.errors import Quarrel
 from answerskept.forms import is_world
-from answerskept.wanting import odd_pairs, wanted_code
+from answerskept.wanting import odd_pairs, wanted_code, wanted_of
 from answerskept.weaving import known_for, world_to, woven
 
 _YES = ("yes",)
@@ -12,15 +12,7 @@ _NO = ("no",)
 
 def wanted(base, afters, world):
     """Return the wanted answer in a world, or None if the afters quarrel there."""
-    start = answer(base, world)
-    found = start
-    for after in afters:
-        told = answer(after, world)
-        if told != start:
-            if found not in (start, told):
-                return None
-            found = told
-    return found
+    return wanted_of(answer(base, world), [answer(after, world) for after in afters])
 
 
 def quarrel_world(base, afters):

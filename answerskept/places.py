@@ -3,7 +3,7 @@
 from itertools import combinations
 
 from answerskept.errors import KeptError, NoFunction, NoPlace, Overlap
-from answerskept.forms import is_integer, is_term
+from answerskept.forms import is_integer, is_name, is_term
 from answerskept.longs import parts_of, put_at
 from answerskept.lots import least_lots
 from answerskept.programs import Program, is_long
@@ -20,7 +20,7 @@ def part_at(program, function, place):
     """Return the term or the long code at a place, any value, of a function's code."""
     code = program.code(function)
     # True would be found as 1, so only integers are looked for.
-    if isinstance(place, tuple) and all([is_integer(step) for step in place]):
+    if _are_steps(place):
         for other, part in parts_of(code):
             if other == place:
                 return part
@@ -37,6 +37,13 @@ def is_edit(program, thing):
     except (NoFunction, NoPlace):
         return False
     return is_term(part) if is_term(there) else is_long(part)
+
+
+def has_edit_form(thing):
+    """Whether thing, any value, could be an edit of some program."""
+    if not isinstance(thing, tuple) or len(thing) != 3 or not is_name(thing[0]):
+        return False
+    return _are_steps(thing[1]) and (is_term(thing[2]) or is_long(thing[2]))
 
 
 def edited(program, edits):
@@ -62,6 +69,10 @@ def are_at_odds(one, other):
     """Whether two edits are of one function, and the place of one begins that of the other."""
     many = min(len(one[1]), len(other[1]))
     return one[0] == other[0] and one[1][:many] == other[1][:many]
+
+
+def _are_steps(thing):
+    return isinstance(thing, tuple) and all([is_integer(step) for step in thing])
 
 
 def _gives(program, edits, function, goal):

@@ -4,6 +4,7 @@ from itertools import permutations
 
 from answerskept.changes import where
 from answerskept.codes import answer
+from answerskept.wanting import first_of
 from answerskept.weaving import ends_of, known_for, woven
 
 _NO = ("no",)
@@ -34,7 +35,7 @@ def orders_for(base, afters, wishes):
         rows.append((answer(base, world), [answer(after, world) for after in afters], much))
     return [
         order for order in permutations(range(len(afters)))
-        if all([_first(start, told, order) == goal for start, told, goal in rows])
+        if all([first_of(start, told, order) == goal for start, told, goal in rows])
     ]
 
 
@@ -43,7 +44,7 @@ def order_lots(base, afters):
     rows = _kinds(base, afters)
     found = {}
     for order in permutations(range(len(afters))):
-        followed = tuple([_first(0, row, order) for row in rows])
+        followed = tuple([first_of(0, row, order) for row in rows])
         found.setdefault(followed, []).append(order)
     return sorted(found.values())
 
@@ -54,14 +55,6 @@ def _settled_end(base, after, found):
 
 def _shown_end(base, ahead, found):
     return ("if", base[1], ahead[1], found, _NO)
-
-
-def _first(start, told, order):
-    """The first of what is told, in an order, that is unlike the start, or the start."""
-    for index in order:
-        if told[index] != start:
-            return told[index]
-    return start
 
 
 def _kinds(base, afters):

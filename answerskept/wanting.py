@@ -1,4 +1,4 @@
-"""What afters want of a base, as one code, and which two of them quarrel."""
+"""What afters want of a base: of its answer alone, and as one code; and which two of them quarrel."""
 
 from itertools import combinations
 
@@ -6,6 +6,25 @@ from answerskept.weaving import known_for, world_to, woven
 
 _YES = ("yes",)
 _NO = ("no",)
+
+
+def wanted_of(start, told):
+    """Return what is wanted where a base tells start, and afters what is told, or None if they quarrel."""
+    found = start
+    for goal in told:
+        if goal != start:
+            if found not in (start, goal):
+                return None
+            found = goal
+    return found
+
+
+def first_of(start, told, order):
+    """Return the first of what afters tell, in an order, that is unlike what a base tells, or that."""
+    for index in order:
+        if told[index] != start:
+            return told[index]
+    return start
 
 
 def wanted_code(known, base, afters):

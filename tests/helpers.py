@@ -5,6 +5,8 @@ import random
 import re
 
 from answerskept import errors
+from answerskept.books import Book
+from answerskept.desk import Desk
 from answerskept.machines import Machine
 from answerskept.programs import Program
 
@@ -123,7 +125,8 @@ def chain(names, end="a", work="f"):
 def any_values():
     """Values of all kinds that are none of what any form of the package tells."""
     made = [getattr(errors, name)(*(1 for _ in fields)) for name, fields in ERRORS.items()]
-    made += [errors.KeptError("x"), Program({"a": (["a"], ("tell", ("a",)))}), program("p a,b go q (a)\nq a tell a"), machine("a0a")]
+    made += [errors.KeptError("x"), Program({"a": (["a"], ("tell", ("a",)))}), program("p a,b go q (a)\nq a tell a"), machine("a0a"),
+             Book(program("p a tell a")), Desk(program("p a tell a"))]
     deep_list, deep_tuple, deep_dict = [], (), {}
     for _ in range(29):
         deep_list, deep_tuple, deep_dict = [deep_list], (deep_tuple,), {"a": deep_dict}
@@ -192,6 +195,11 @@ def seen(thing):
     """A text that tells values apart, also True from 1, and the order of keys; Programs by their functions."""
     if isinstance(thing, Program):
         return "Program(" + repr(functions_of(thing)) + ")"
+    if isinstance(thing, Book):
+        sheets = [(name, thing.sheet(name)) for name in thing.editors()]
+        return "Book(" + seen([thing.base, thing.program, sheets, thing.claims(), thing.log()]) + ")"
+    if isinstance(thing, Desk):
+        return "Desk(" + seen(thing.book()) + ")"
     if isinstance(thing, Machine):
         return "Machine(" + repr(thing.rules()) + ")"
     if isinstance(thing, dict):

@@ -687,3 +687,38 @@ def folded(rules):
               for state in {state_behind(rules, row + [name]) for row in rows(rules[0], len(rules) - 1) for name in rules[0]}}
     return [{name: (number[rules[first][name][0]], rules[first][name][1]) for name in sorted(rules[first])}
             for first in firsts]
+
+
+def last_outputs(machines, row):
+    return [said(rules, row)[-1] for rules in machines]
+
+
+def wanted_output(start, told):
+    goals = {goal for goal in told if goal != start}
+    return None if len(goals) > 1 else max(goals, default=start)
+
+
+def settled_output(start, told, order):
+    return next((told[index] for index in order if told[index] != start), start)
+
+
+def product_levels(machines, start):
+    """Lists of tuples (states, outputs, states behind) of machines led side by side: by one input, by two, and so on."""
+    level, seen = {start}, {start}
+    while level:
+        steps = [(states, [rules[state][name] for rules, state in zip(machines, states)]) for states in sorted(level) for name in machines[0][0]]
+        yield [(states, [output for _, output in found], tuple(later for later, _ in found)) for states, found in steps]
+        level = {tuple(later for later, _ in found) for _, found in steps} - seen
+        seen |= level
+
+
+def shortest(machines, is_goal, row=()):
+    """The length of the shortest row behind a row whose last outputs are a goal, or None."""
+    start = tuple(state_behind(rules, row) for rules in machines)
+    return next((many + 1 for many, steps in enumerate(product_levels(machines, start))
+                 if any(is_goal(outputs) for _, outputs, _ in steps)), None)
+
+
+def says_as(machines, rules, say):
+    """Whether rules say at each row what say makes of the outputs of machines."""
+    return shortest(machines + [rules], lambda outputs: say(outputs[:-1]) != outputs[-1]) is None

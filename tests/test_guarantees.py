@@ -1,5 +1,5 @@
 """Promises [5], [7] and [2]: answers hang on shapes, doing the same means equal answers in all worlds,
-and afters can be kept if each two of them can."""
+and afters can be kept if each two of them can; and what holds over the whole program."""
 
 import itertools
 import unittest
@@ -9,8 +9,10 @@ from helpers import chances, random_code, random_facts, random_rows, random_term
 
 from answerskept.changes import changes_in
 from answerskept.codes import answer, asked, told_at, ways
-from answerskept.errors import Quarrel
+from answerskept.errors import Quarrel, QuarrelRow
 from answerskept.keeping import kept, keeps, quarrel_world, wanted
+from answerskept.keptmachines import calm, kept_machine, losing_row, quarrel_row, settled_machine, wanted_at
+from answerskept.machines import Machine
 from answerskept.many import quarrels
 from answerskept.sameness import do_same
 from answerskept.settling import settled
@@ -121,6 +123,38 @@ class GuaranteesTest(unittest.TestCase):
                 self.assertIs(keeps(base, afters, each), do_same(each, made), (base, afters, each))
                 found += keeps(base, afters, each) and each != made
         self.assertGreater(found, 100)
+
+    def test_machines_that_say_the_answers_of_codes(self):
+        """Each input stands for a world: the machines are kept and settled as the codes are in these worlds."""
+        found = {True: 0, False: 0}
+        for chance, pool, base, afters in random_rows(200):
+            worlds = oracle.worlds_of(base, *afters)
+            rows = dict(zip("uvw", chance.sample(worlds, min(3, len(worlds)))))
+
+            def machine_of(code):
+                return Machine(list(rows), [{name: (0, "abcdefgh"[answer(code, world)]) for name, world in rows.items()}])
+
+            start, them = machine_of(base), [machine_of(after) for after in afters]
+            goals = {name: wanted(base, afters, world) for name, world in rows.items()}
+            right = {name: goal if goal is None else "abcdefgh"[goal] for name, goal in goals.items()}
+            for name in rows:
+                self.assertEqual(wanted_at(start, them, ["u", name]), right[name])
+            peaceful = None not in right.values()
+            self.assertIs(quarrel_row(start, them) is None, peaceful)
+            self.assertIs(calm(start, them, ["u"]), peaceful)
+            if peaceful:
+                self.assertEqual(kept_machine(start, them).rules(), [{name: (0, right[name]) for name in rows}])
+            else:
+                self.assertRaises(QuarrelRow, kept_machine, start, them)
+            order = tuple(chance.sample(range(len(afters)), len(afters)))
+            made = settled(base, afters, order)
+            self.assertIs(settled_machine(start, them, order) == machine_of(made), True)
+            other = random_code(chance, pool, 2)
+            lost = [name for name, world in rows.items() if goals[name] not in (None, answer(other, world))]
+            self.assertEqual(losing_row(start, them, machine_of(other)) in [[name] for name in lost] if lost
+                             else losing_row(start, them, machine_of(other)) is None, True)
+            found[peaceful] += 1
+        self.assertGreater(min(found.values()), 10)
 
 
 if __name__ == "__main__":

@@ -53,13 +53,23 @@ INTERFACE = {
     "pinning": {"pins": ("codes", "index", "claims"), "told_apart": ("codes", "claims")},
     "machines": {"Machine": ("inputs", "rules"), "folded": ("machine",), "say_same": ("one", "other"), "are_pairs": ("one", "other", "thing"),
                  "parting_row": ("one", "other"), "pairs": ("one", "other")},
+    "keptmachines": {"wanted_at": ("base", "afters", "row"), "quarrel_row": ("base", "afters"), "losing_row": ("base", "afters", "machine"),
+                     "kept_machine": ("base", "afters"), "settled_machine": ("base", "afters", "order"), "calm": ("base", "afters", "row")},
+    "notation": {"show_" + name: (name,) for name in ("term", "code", "guard", "fact", "claim", "world", "edit", "program")},
+    "readers": {"read_" + name: ("text",) for name in ("term", "code", "guard", "fact", "claim", "world", "edit", "program")},
+    "books": {"Book": ("base",)},
+    "desk": {"Desk": ("base",)},
 }
 METHODS = {
     ("programs", "Program"): {"functions": (), "givens": ("function",), "code": ("function",), "reaches": ("function",),
                               "with_code": ("function", "code"), "__init__": ("functions",), "__eq__": ("other",)},
     ("machines", "Machine"): {"inputs": (), "rules": (), "said": ("row",), "state_behind": ("row",),
                               "__init__": ("inputs", "rules"), "__eq__": ("other",), "__len__": ()},
+    ("books", "Book"): {"do": ("deed",), "editors": (), "claims": (), "log": (), "sheet": ("editor",), "word": ("function",), "back": (), "again": (),
+                        "copied": (), "trial": ("deeds",), "__init__": ("base",), "__eq__": ("other",), "__len__": ()},
+    ("desk", "Desk"): {"execute": ("line",), "book": (), "__init__": ("base",)},
 }
+PROPERTIES = {("books", "Book"): ("base", "program")}
 
 
 class InterfaceTest(unittest.TestCase):
@@ -78,6 +88,12 @@ class InterfaceTest(unittest.TestCase):
             for method, arguments in methods.items():
                 self.assertIn(method, vars(made))
                 self.assertEqual(tuple(inspect.signature(vars(made)[method]).parameters)[1:], arguments, method)
+
+    def test_properties(self):
+        for (file, name), properties in PROPERTIES.items():
+            made = getattr(importlib.import_module("answerskept." + file), name)
+            for each in properties:
+                self.assertIsInstance(vars(made)[each], property)
 
     def test_errors_are_kept_in_their_file(self):
         for path in sorted(pathlib.Path(importlib.import_module("answerskept").__file__).parent.glob("*.py")):

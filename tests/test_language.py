@@ -12,11 +12,12 @@ BUILTINS = (
     "len range enumerate zip min max sum abs sorted reversed int str bool bytes list tuple dict set frozenset "
     "isinstance ord repr any all divmod pow Exception ValueError TypeError KeyError IndexError LookupError "
     "ZeroDivisionError ArithmeticError OverflowError RuntimeError NotImplementedError AttributeError StopIteration "
-    "NotImplemented property staticmethod classmethod super iter next map").split()
+    "NotImplemented property staticmethod classmethod super iter next map type").split()
 METHODS = (
     "append clear copy count endswith extend find get index insert isalnum isalpha isdigit islower isspace isupper "
     "items join keys ljust lower lstrip partition pop remove replace reverse rfind rjust rpartition rsplit rstrip "
-    "setdefault split splitlines startswith strip update upper values zfill bit_length add discard sort").split()
+    "setdefault split splitlines startswith strip update upper values zfill bit_length isdecimal removesuffix add discard "
+    "sort").split()
 BARRED = (
     "register mro elements open input law version_info with_traceback add_note attrgetter breakpoint builtins compile "
     "copyright credits delattr dir eval exec exit gc globals help id importlib license locals methodcaller os quit "
@@ -156,6 +157,42 @@ class LanguageTest(unittest.TestCase):
             if isinstance(sign, (ast.Is, ast.IsNot)):
                 self.assertIsInstance(other, ast.Constant, file)
                 self.assertIn(repr(other.value), ("None", "True", "False"), file)
+
+    def test_kinds_are_asked_for_by_name_alone(self):
+        """A call of type stands only in type(x).__name__."""
+        for file in FILES:
+            tree = tree_of(file)
+            named = [node.value for node in ast.walk(tree) if isinstance(node, ast.Attribute) and node.attr == "__name__"]
+            for node in ast.walk(tree):
+                if isinstance(node, ast.Call) and isinstance(node.func, ast.Name) and node.func.id == "type":
+                    self.assertIn(node, named, file)
+                if isinstance(node, ast.Attribute) and node.attr.startswith("__"):
+                    self.assertEqual(node.attr, "__name__", file)
+
+    def test_texts_in_braces(self):
+        for file in FILES:
+            text = file.read_text()
+            for node in ast.walk(tree_of(file)):
+                if isinstance(node, ast.JoinedStr):
+                    row = ast.get_source_segment(text, node)
+                    inner = [each for part in node.values if isinstance(part, ast.FormattedValue) for each in ast.walk(part.value)
+                             if isinstance(each, ast.Constant) and isinstance(each.value, str)]
+                    self.assertFalse(inner and ("\\" in row or "\n" in row), row)
+
+    def test_properties_and_attributes(self):
+        """No class stores what is a property anywhere, and no class has a method and an attribute of one name."""
+        stored, methods, held = set(), set(), set()
+        for file in FILES:
+            for node in ast.walk(tree_of(file)):
+                if isinstance(node, ast.Attribute) and isinstance(node.ctx, ast.Store):
+                    stored.add(node.attr)
+                if isinstance(node, ast.ClassDef):
+                    for each in node.body:
+                        if isinstance(each, ast.FunctionDef):
+                            (held if each.decorator_list else methods).add(each.name)
+        self.assertFalse(stored & methods)
+        self.assertFalse(held & (stored | methods))
+        self.assertEqual(held, {"base", "program"})
 
     def test_sets_stand_where_they_may(self):
         for file in FILES:

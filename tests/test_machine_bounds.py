@@ -6,6 +6,8 @@ import oracle
 from bounds import QuickTest
 from helpers import chances, random_rules
 
+from answerskept.errors import QuarrelRow
+from answerskept.keptmachines import calm, kept_machine, losing_row, quarrel_row, settled_machine, wanted_at
 from answerskept.machines import Machine, are_pairs, folded, pairs, parting_row, say_same
 
 
@@ -16,6 +18,12 @@ def turning_rules(chance, states=6, inputs="uvw", outputs="xy"):
         for state, later in enumerate(chance.sample(range(states), states)):
             rules[state][name] = (later, chance.choice(outputs))
     return rules
+
+
+def told_rules(chance, told):
+    """Rules by which the states are turned about, and each state says what told makes of it and of an input."""
+    rules = turning_rules(chance)
+    return [{name: (later, told(state, name)) for name, (later, _) in rule.items()} for state, rule in enumerate(rules)]
 
 
 def slow_rules(inputs="uvw"):
@@ -72,6 +80,49 @@ class MachineBoundsTest(QuickTest):
             told = self.quick(folded, made)
             self.assertEqual(len(told), many)
             self.assertIs(self.quick(say_same, made, told), True)
+
+    def test_five_afters(self):
+        """All six machines are turned about by each input: tens of thousands of states are met together."""
+        kinds = {
+            "calm": (lambda chance: lambda state, name: "x", lambda chance: lambda state, name: "y" if state == 0 else "x"),
+            "odd": (lambda chance: lambda state, name: chance.choice(("x", "xx")), lambda chance: lambda state, name: chance.choice("xyz")),
+            "late": (lambda chance: lambda state, name: "x", lambda chance: lambda state, name: chance.choice("yz") if (state, name) == (5, "w") else "x")}
+        for seed, (of_base, of_after) in enumerate(kinds.values()):
+            chance = chances(seed)
+            base = told_rules(chance, of_base(chance))
+            afters = [told_rules(chance, of_after(chance)) for _ in range(5)]
+            self.check_afters(chance, base, afters)
+
+    def check_afters(self, chance, base, afters):
+        names = ["u", "v", "w"]
+        start, them = Machine(names, base), [Machine(names, after) for after in afters]
+        machines = [base] + afters
+        rows = [[chance.choice(names) for _ in range(chance.randint(1, 60))] for _ in range(200)]
+        told = [oracle.last_outputs(machines, row) for row in rows]
+        wanted = [oracle.wanted_output(outputs[0], outputs[1:]) for outputs in told]
+        for row, right in zip(rows[:20], wanted):
+            self.assertEqual(self.quick(wanted_at, start, them, row), right)
+        row = self.quick(quarrel_row, start, them)
+        self.assertIs(self.quick(calm, start, them, []), row is None)
+        self.assertIs(self.quick(calm, start, them, rows[0]), row is None)
+        if row is None:
+            self.assertNotIn(None, wanted)
+            made = self.quick(kept_machine, start, them)
+            self.assertEqual([made.said(row)[-1] for row in rows], wanted)
+            self.assertIsNone(self.quick(losing_row, start, them, made))
+        else:
+            self.assertRaises(QuarrelRow, kept_machine, start, them)
+            outputs = oracle.last_outputs(machines, row)
+            self.assertIsNone(oracle.wanted_output(outputs[0], outputs[1:]))
+        order = tuple(chance.sample(range(5), 5))
+        made = self.quick(settled_machine, start, them, order)
+        self.assertEqual([made.said(row)[-1] for row in rows],
+                         [oracle.settled_output(outputs[0], outputs[1:], order) for outputs in told])
+        for other in [start] + them[:2] + [made]:
+            row = self.quick(losing_row, start, them, other)
+            if row is not None:
+                outputs = oracle.last_outputs(machines, row)
+                self.assertNotIn(oracle.wanted_output(outputs[0], outputs[1:]), (None, other.said(row)[-1]))
 
 
 if __name__ == "__main__":
