@@ -13,7 +13,7 @@ def show_term(term):
         if isinstance(part, str):
             texts.append(part)
         else:
-            waiting.extend(reversed(_around(part[1:])))
+            waiting.extend(_around(part[1:])[::-1])
             waiting.append(part[0])
     return "".join(texts)
 
@@ -89,7 +89,7 @@ def _shown(thing):
             waiting.extend([part[3], part[2]])
         else:
             words.extend([show_term(term) for term in part[1:3]])
-            waiting.extend(reversed(part[3:]))
+            waiting.extend(part[3:][::-1])
     return " ".join(words)
 
 

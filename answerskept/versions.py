@@ -31,13 +31,13 @@ def hangs(versions, world):
 
 def can_turn(versions, step):
     """Whether the same comes of the first version if a step is carried behind the next one."""
-    steps = list(_steps(versions))
+    steps = _steps(versions)
     turned = steps[:step - 1] + [step + 1, step] + steps[step + 1:]
     return do_same(_behind(versions, turned), versions[-1])
 
 
 def _steps(versions):
-    return range(1, len(versions))
+    return list(range(1, len(versions)))
 
 
 def _behind(versions, steps):

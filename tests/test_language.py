@@ -26,6 +26,7 @@ BARRED_WORDS = (
     "type typing typing_extensions enum Enum IntEnum StrEnum Flag IntFlag Generic Protocol ABC ABCMeta namedtuple "
     "NamedTuple TypedDict TYPE_CHECKING abstractmethod").split()
 STATEMENTS = (ast.AsyncFunctionDef, ast.AsyncFor, ast.AsyncWith, ast.Global, ast.Import, ast.Await)
+AT_ONCE = "list tuple dict sorted sum any all enumerate zip bytes min max combinations permutations product".split()
 LIBRARY = {"heapq", "math", "itertools", "collections"}
 
 
@@ -193,6 +194,21 @@ class LanguageTest(unittest.TestCase):
         self.assertFalse(stored & methods)
         self.assertFalse(held & (stored | methods))
         self.assertEqual(held, {"base", "program"})
+
+    def test_what_is_iterated_at_once(self):
+        """Ranges, zips and views are gone through where they stand, and not stored, returned or passed on."""
+        for file in FILES:
+            tree = tree_of(file)
+            placed = [node.iter for node in ast.walk(tree) if isinstance(node, (ast.For, ast.comprehension))]
+            for node in ast.walk(tree):
+                if isinstance(node, ast.Call) and isinstance(node.func, ast.Name) and node.func.id in AT_ONCE:
+                    placed += node.args if node.func.id == "zip" else node.args[:1]
+            for node in ast.walk(tree):
+                if isinstance(node, ast.Call):
+                    plain = isinstance(node.func, ast.Name) and node.func.id in ("zip", "enumerate", "reversed", "range")
+                    view = isinstance(node.func, ast.Attribute) and node.func.attr in ("items", "keys", "values")
+                    if plain or view:
+                        self.assertIn(node, placed, (file, node.lineno))
 
     def test_sets_stand_where_they_may(self):
         for file in FILES:
