@@ -13,8 +13,8 @@ def pieces_of(text):
     found = []
     # From the last word on, so that what a word takes has been made already.
     for word in reversed(text.split(" ")):
-        many = _TAKES.get(word, 0)
-        if word in _TAKES and many <= len(found):
+        many = _TAKES.get(word)
+        if many is not None and many <= len(found):
             found = [_made(word, found[:many])] + found[many:]
         else:
             found = [word] + found
@@ -47,7 +47,7 @@ def term_in(piece):
             begun[-1].append(tuple(done))
     if name:
         begun[-1].append((name,))
-    return begun[0][0] if len(begun) == 1 and len(begun[0]) == 1 else None
+    return begun[0][0] if len(begun[0]) == 1 else None
 
 
 def number_in(piece):

@@ -144,6 +144,9 @@ class BookTest(unittest.TestCase):
                 (MANY, ["join ann", "edit ann p 3 tell a", "edit ann q - go p (a,a)"], "drop ann 0", ("Round", "p")),
                 (MANY, ["join ann", "edit ann p 3 tell a", "edit ann q - go p (a,a)"], "drop ann 1", None),
                 (MANY, ["join ann", "join bob", "edit ann p 3 tell a"], "edit bob q - go p (a,a)", ("Round", "p")),
+                # The sheet alone must do, though with those of others it would.
+                (MANY, ["join ann", "join bob", "edit ann p 3 tell a", "edit ann q - go p (a,a)", "edit bob p 3 tell a"], "drop ann 0", ("Round", "p")),
+                (MANY, ["join ann", "join bob", "edit ann p 3 tell a", "edit ann q - go p (a,a)", "edit bob p 3 tell a"], "drop bob 0", None),
                 ("p a if a a tell a tell a\nq a tell a", ["join ann", "join bob", "edit ann p 3 go q (a)"], "edit bob q - go p (a)", ("Round", "p")),
                 ("p a if a a tell a tell a\nq a tell a", ["join ann", "join bob", "edit ann p 3 go q (a)", "claim p yes a"], "edit bob p 4 tell f(a)", None),
                 (MANY, ["claim r if a b no yes b"], "claim r if a b yes no f(f(a))", ("Broken", 1)), (MANY, ["join ann", "claim q yes f(a)"], "edit ann q 1 a", ("Broken", 0))]:

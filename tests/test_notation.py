@@ -17,7 +17,7 @@ TERMS = {
     "a": ("a",), "abcdefgh": ("abcdefgh",), "f(a)": ("f", ("a",)), "f(a,b)": ("f", ("a",), ("b",)), "f(a,g(b))": ("f", ("a",), ("g", ("b",))),
     "f(g(a),b)": ("f", ("g", ("a",)), ("b",)), "f(f(f(f)))": ("f", ("f", ("f", ("f",)))), "g(a,a,a,a)": ("g", ("a",), ("a",), ("a",), ("a",)),
     "f(g(a,b),g(b,a),c)": ("f", ("g", ("a",), ("b",)), ("g", ("b",), ("a",)), ("c",)), "goes(iff(yesyes),nono)": ("goes", ("iff", ("yesyes",)), ("nono",)),
-    "a(a)": ("a", ("a",)), "tella(withx)": ("tella", ("withx",)),
+    "a(a)": ("a", ("a",)), "quickly(jumbo,vwxz)": ("quickly", ("jumbo",), ("vwxz",)), "dfghikpr(lmnst)": ("dfghikpr", ("lmnst",)), "tella(withx)": ("tella", ("withx",)),
 }
 WORLDS = {
     "-": {}, "a=0": {("a",): 0}, "a=1 b=1 c=4 f(1)=2": {("f", 1): 2, ("c",): 4, ("b",): 1, ("a",): 1}, "f(0)=0 f(0,0)=1 f(1)=2": {("f", 1): 2, ("f", 0, 0): 1, ("f", 0): 0},
